@@ -168,6 +168,82 @@ def threes_by_search(tree):
     return [three for three in combinations(range(points_in(tree)), 3) if is_three(tree, three)]
 
 
+def pairs_in_order(many):
+    """Pairs x < y, ordered by y, and then by x (point 22)."""
+    return [(x, y) for y in range(many) for x in range(y)]
+
+
+def level_threes_in_order(m, made):
+    return [tuple(sorted((x + m * i, y + m * i, made(x, y) + m * ((i + 1) % 3))))
+            for i in range(3) for x, y in pairs_in_order(m)]
+
+
+def skolem_in_order(n):
+    m = (n - 1) // 3
+    t = m // 2
+    told = [(x, x + m, x + 2 * m) for x in range(t)]
+    told += [tuple(sorted((n - 1, x + t + m * i, x + m * ((i + 1) % 3)))) for i in range(3) for x in range(t)]
+    return told + level_threes_in_order(m, lambda x, y: skolem_made(m, x, y))
+
+
+def affine_place(k, three):
+    """The direction of a three, and its point with the figure 0 where the direction has its highest."""
+    a, b = [figures(point, 3, k) for point in three[:2]]
+    for told in ([(y - x) % 3 for x, y in zip(a, b)], [(x - y) % 3 for x, y in zip(a, b)]):
+        place = max(at for at in range(k) if told[at] != 0)
+        if told[place] == 1:
+            points = [point for point in three if figures(point, 3, k)[place] == 0]
+            return (sum(figure * 3 ** at for at, figure in enumerate(told)), points)
+
+
+def binary_place(three):
+    """The highest place of w, then u, then that one of v and w which has 0 at the highest place of u."""
+    u, v, w = (point + 1 for point in three)
+    place = max(at for at in range(200) if u & 2 ** at)
+    return (max(at for at in range(200) if w & 2 ** at), u, [x for x in (v, w) if not x & 2 ** place])
+
+
+def double_in_order(v, threes):
+    told = [(a, a + v, 2 * v) for a in range(v)]
+    for a, b, c in threes:
+        for i, j, k in ((0, 0, 0), (0, 1, 1), (1, 0, 1), (1, 1, 0)):
+            told.append(tuple(sorted((a + v * i, b + v * j, c + v * k))))
+    return told
+
+
+def product_in_order(v, first, w, second):
+    told = [tuple(a * w + x for x in three) for a in range(v) for three in second]
+    told += [tuple(a * w + x for a in three) for x in range(w) for three in first]
+    for a, b, c in first:
+        for three in second:
+            for x in three:
+                y, z = [point for point in three if point != x]
+                told.append((a * w + x, b * w + y, c * w + z))
+                told.append((a * w + x, b * w + z, c * w + y))
+    return told
+
+
+def threes_in_order(tree):
+    """All threes of a small system by their numbers, by the points 22 to 27."""
+    kind = tree[0]
+    if kind == "bose":
+        m = tree[1] // 3
+        return ([(x, x + m, x + 2 * m) for x in range(m)]
+                + level_threes_in_order(m, lambda x, y: (x + y) * (m + 1) // 2 % m))
+    if kind == "skolem":
+        return skolem_in_order(tree[1])
+    if kind == "affine":
+        return sorted(threes_by_search(tree), key=lambda three: affine_place(tree[1], three))
+    if kind == "binary":
+        return sorted(threes_by_search(tree), key=binary_place)
+    if kind == "listed":
+        return [tuple(sorted(three)) for three in tree[2]]
+    if kind == "double":
+        return double_in_order(points_in(tree[1]), threes_in_order(tree[1]))
+    return product_in_order(points_in(tree[1]), threes_in_order(tree[1]),
+                            points_in(tree[2]), threes_in_order(tree[2]))
+
+
 def unchanged(case, call, *told, **limits):
     """Calls, tests that the arguments stay as they were, and returns the answer."""
     before = copy.deepcopy(told)

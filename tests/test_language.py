@@ -133,6 +133,10 @@ class Interface(unittest.TestCase):
                    "UnknownPoint UnknownName InvalidNotation InvalidPaper TooMany NameInUse"),
         "systems": "is_system checked size three_count threes_at part_count arms_of check_point exists built",
         "thirds": "third product are_three through",
+        "notation": "format_system parse_system",
+        "threes": "three_at number_of all_threes",
+        "partial": "kept_threes first_fault is_whole open_pairs open_thirds odd_point",
+        "completing": "complete completion_count is_completion filled none_paper check_none",
     }
 
     def test_each_is_defined_in_its_file(self):
