@@ -1,7 +1,7 @@
 """What the tests share: systems told by the words of the document, and its examples run."""
 
 import copy
-from itertools import combinations
+from itertools import combinations, permutations
 
 FANO = [(2, 0, 1), (0, 3, 4), [5, 6, 0], (1, 3, 5), (6, 4, 1), (2, 3, 6), (5, 4, 2)]
 NINE = [(8, 7, 6), (0, 1, 2), (3, 4, 5), (0, 3, 6), (1, 4, 7), (2, 5, 8),
@@ -242,6 +242,91 @@ def threes_in_order(tree):
         return double_in_order(points_in(tree[1]), threes_in_order(tree[1]))
     return product_in_order(points_in(tree[1]), threes_in_order(tree[1]),
                             points_in(tree[2]), threes_in_order(tree[2]))
+
+
+NAMES = ("x", "z9", "abcdefghijkl", "a0000000000b", "q1w2e3", "size")
+NO_NAMES = ("", "abcdefghijklm", "a000000000000", "1a", "0", "X", "aB", "A1", "a b", " a", "a ", "a_", "_a", "a-b", "a.b",
+            "x\n", "\u00e4", "a\u00df", "a\u0663", "\u0430", "a\u00b2")
+
+
+def turned(term):
+    """The term with the sides of all pairs exchanged."""
+    return term if isinstance(term, str) else (turned(term[1]), turned(term[0]))
+
+
+def as_lists(term):
+    return term if isinstance(term, str) else [as_lists(side) for side in term]
+
+
+def as_tuples(term):
+    return term if isinstance(term, str) else tuple(as_tuples(side) for side in term)
+
+
+def text_of(term):
+    """The text of a term (point 45)."""
+    return term if isinstance(term, str) else "(%s %s)" % (text_of(term[0]), text_of(term[1]))
+
+
+def in_order(terms):
+    return sorted(terms, key=lambda term: (len(text_of(term)), text_of(term)))
+
+
+def parts_of(term):
+    return [term] + ([] if isinstance(term, str) else parts_of(term[0]) + parts_of(term[1]))
+
+
+def leaves_of(term):
+    return [part for part in parts_of(term) if isinstance(part, str)]
+
+
+def terms_with(names, leaves):
+    """All terms of some names in which so many names stand."""
+    if leaves == 1:
+        return list(names)
+    return [(one, other) for many in range(1, leaves)
+            for one in terms_with(names, many) for other in terms_with(names, leaves - many)]
+
+
+def once_changed(term):
+    """What one use of one rule of point 46 makes of a term, for each rule and place."""
+    if isinstance(term, str):
+        return []
+    one, other = term
+    told = [(less, other) for less in once_changed(one)] + [(one, less) for less in once_changed(other)]
+    if one == other:
+        told.append(one)
+    for side, pair in ((one, other), (other, one)):
+        if not isinstance(pair, str):
+            told += [pair[1 - at] for at in (0, 1) if pair[at] == side]
+    if in_order([one, other])[0] != one:
+        told.append((other, one))
+    return told
+
+
+def plain_by_rules(term, choose=lambda told: told[0]):
+    """The plain form, by single uses of the rules; `choose` tells which one is used."""
+    told = once_changed(term)
+    while told:
+        term = choose(told)
+        told = once_changed(term)
+    return term
+
+
+def third_table(tree):
+    """The third points of all two points of a small system."""
+    table = {}
+    for three in threes_by_search(tree):
+        for a, b, c in permutations(three):
+            table[a, b] = c
+    return table
+
+
+def comes_to(table, term, points):
+    """The point to which a term comes (point 44)."""
+    if isinstance(term, str):
+        return points[term]
+    one, other = [comes_to(table, side, points) for side in term]
+    return one if one == other else table[one, other]
 
 
 def unchanged(case, call, *told, **limits):

@@ -137,6 +137,10 @@ class Interface(unittest.TestCase):
         "threes": "three_at number_of all_threes",
         "partial": "kept_threes first_fault is_whole open_pairs open_thirds odd_point",
         "completing": "complete completion_count is_completion filled none_paper check_none",
+        "terms": "check_term leaf_count names_of term_text replaced value",
+        "plain": "plain is_plain equal_everywhere Parting parting check_parting plain_count plain_forms",
+        "trying": "first_difference holds_in",
+        "names": "is_name",
     }
 
     def test_each_is_defined_in_its_file(self):
