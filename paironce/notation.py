@@ -8,7 +8,7 @@ MOST_DIGITS = 31
 
 def format_system(tree):
     """The written form of a system."""
-    return "\n".join(["system"] + _tree_lines(checked(tree)))
+    return kept_text(checked(tree))
 
 
 def parse_system(text):
@@ -18,6 +18,11 @@ def parse_system(text):
     if len(heads) > MOST_PARTS:
         raise InvalidSystem("the tree has too many parts")
     return checked(_tree_of(heads))
+
+
+def kept_text(tree):
+    """The written form of a checked tree."""
+    return "\n".join(["system"] + _tree_lines(tree))
 
 
 def is_number(word):

@@ -141,7 +141,22 @@ class Interface(unittest.TestCase):
         "plain": "plain is_plain equal_everywhere Parting parting check_parting plain_count plain_forms",
         "trying": "first_difference holds_in",
         "names": "is_name",
+        "subsystems": "closed is_closed growth chain taken_out least_points subsystems subsystem_counts meet",
+        "library": "decide Library",
+        "commands": "split_words is_command",
     }
+
+    METHODS = {
+        ("library", "Library"): ("set_system double product take_out remove_system ask drop undo redo change_all "
+                                 "system_names question_names system question answer answers"),
+    }
+
+    def test_each_method_is_defined_in_its_class(self):
+        for (file, name), methods in self.METHODS.items():
+            held = [node for node in ast.parse(read(file + ".py")).body if getattr(node, "name", None) == name]
+            told = [node.name for node in held[0].body if isinstance(node, ast.FunctionDef)]
+            for method in methods.split():
+                self.assertIn(method, told)
 
     def test_each_is_defined_in_its_file(self):
         for file, names in self.LISTED.items():
