@@ -342,6 +342,12 @@ class CheckParting(unittest.TestCase):
         for key in NO_NAMES:
             self.assertIs(check_parting(("x", "y"), "x", changed(told, names={**told.names, key: 0})), False)
 
+    def test_other_values(self):
+        told = parting(("x", "y"), "x")
+        for wrong in ({"count": None}, {"count": "3"}, {"threes": None}, {"threes": [7]}, {"threes": [(0, 1, "2")]},
+                      {"names": {"x": None, "y": 1}}, {"names": {"x": "0", "y": 1}}, {"names": {"x": 0, "y": 1, 7: 0}}):
+            self.assertIs(check_parting(("x", "y"), "x", changed(told, **wrong)), False)
+
     def test_ends(self):
         for one, other in PAIRS:
             told = parting(one, other)

@@ -1,3 +1,4 @@
+import inspect
 import unittest
 from itertools import combinations
 
@@ -336,6 +337,11 @@ class Subsystems(unittest.TestCase):
         self.assertEqual(subsystems(("binary", 3), 0, limit=1), [[]])
         self.assertEqual(len(subsystems(("bose", 57), 3, limit=590)), 532)
         self.assertEqual(raised(self, TooMany, subsystems, ("bose", 57), 3, limit=589).limit, 589)
+
+    def test_limits_of_their_own(self):
+        # No system of so few points is known that has as many subsystems.
+        for call in (subsystems, subsystem_counts):
+            self.assertEqual(inspect.signature(call).parameters["limit"].default, 2000)
 
     def test_what_is_told_is_new(self):
         told = subsystems(("binary", 3), 0)
