@@ -339,7 +339,7 @@ class Subsystems(unittest.TestCase):
         self.assertEqual(raised(self, TooMany, subsystems, ("bose", 57), 3, limit=589).limit, 589)
 
     def test_limits_of_their_own(self):
-        # No system of so few points is known that has as many subsystems.
+        # None of the systems that are tried here has so many subsystems.
         for call in (subsystems, subsystem_counts):
             self.assertEqual(inspect.signature(call).parameters["limit"].default, 2000)
 
