@@ -3,7 +3,7 @@
 from itertools import combinations
 
 from paironce.errors import InvalidQuestion, TooMany
-from paironce.systems import MOST_LISTED, check_points_below, checked, kept_size, power_of_three
+from paironce.systems import MOST_LISTED, check_points_below, checked, checked_small, kept_size, power_of_three
 from paironce.thirds import kept_third
 
 
@@ -51,7 +51,7 @@ def taken_out(tree, points):
 
 def least_points(tree):
     """The fewest points whose least subsystem is the whole system, the first list of so many."""
-    closing = Closing(_checked_small(tree), MOST_LISTED)
+    closing = Closing(checked_small(tree), MOST_LISTED)
     failed = {}
     many = 1
     told = None
@@ -63,7 +63,7 @@ def least_points(tree):
 
 def subsystems(tree, many, *, limit=2000):
     """The list of all subsystems with so many points, in ascending order."""
-    kept = _checked_small(tree)
+    kept = checked_small(tree)
     if many < 0:
         raise InvalidQuestion("a number of points is not below 0")
     return sorted([members for members in _all_up_to(kept, many, limit) if len(members) == many])
@@ -72,7 +72,7 @@ def subsystems(tree, many, *, limit=2000):
 def subsystem_counts(tree, *, limit=2000):
     """How many subsystems have so many points, for each number of points with which there are some."""
     times = {}
-    for members in _all_up_to(_checked_small(tree), MOST_LISTED, limit):
+    for members in _all_up_to(checked_small(tree), MOST_LISTED, limit):
         times[len(members)] = times.get(len(members), 0) + 1
     return sorted(times.items())
 
@@ -150,13 +150,6 @@ class Closing:
 def _checked_with(tree, points):
     kept = checked(tree)
     check_points_below(kept_size(kept), points)
-    return kept
-
-
-def _checked_small(tree):
-    kept = checked(tree)
-    if kept_size(kept) > MOST_LISTED:
-        raise InvalidQuestion("the system has too many points")
     return kept
 
 

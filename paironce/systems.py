@@ -33,6 +33,14 @@ def checked(tree):
     return kept
 
 
+def checked_small(tree):
+    """The tree as it is kept, of a system that has as few points as a listed one."""
+    kept = checked(tree)
+    if kept_size(kept) > MOST_LISTED:
+        raise InvalidQuestion("the system has too many points")
+    return kept
+
+
 def size(tree):
     """The number of points."""
     return kept_size(checked(tree))

@@ -244,6 +244,26 @@ def threes_in_order(tree):
                             points_in(tree[2]), threes_in_order(tree[2]))
 
 
+def fours_in(threes):
+    """All fours among ascending threes: four of them that lie on six points (point 85)."""
+    return [four for four in combinations(threes, 4) if len({point for three in four for point in three}) == 6]
+
+
+def exchanged(threes, four):
+    """Other threes with the same pairs: at each three of a four, its points' opposite ones in its place."""
+    opposite = {}
+    for point in {point for three in four for point in three}:
+        met = {other for three in four if point in three for other in three}
+        (opposite[point],) = {other for three in four for other in three} - met
+    new = [tuple(sorted(opposite[point] for point in three)) for three in four]
+    return sorted([three for three in threes if three not in four] + new)
+
+
+# The two systems of 13 points that are not alike.
+THIRTEEN = sorted(tuple(sorted((start + turn) % 13 for start in first)) for first in ((0, 1, 4), (0, 2, 7)) for turn in range(13))
+OTHER_THIRTEEN = exchanged(THIRTEEN, fours_in(THIRTEEN)[0])
+
+
 NAMES = ("x", "z9", "abcdefghijkl", "a0000000000b", "q1w2e3", "size")
 NO_NAMES = ("", "abcdefghijklm", "a000000000000", "1a", "0", "X", "aB", "A1", "a b", " a", "a ", "a_", "_a", "a-b", "a.b",
             "x\n", "\u00e4", "a\u00df", "a\u0663", "\u0430", "a\u00b2")

@@ -144,11 +144,16 @@ class Interface(unittest.TestCase):
         "subsystems": "closed is_closed growth chain taken_out least_points subsystems subsystem_counts meet",
         "library": "decide Library",
         "commands": "split_words is_command",
+        "session": "Session",
+        "texts": "threes_text parse_threes paper_text parse_paper check_text",
+        "renaming": "listed same_threes renamed turned_back one_after_another rings",
+        "likenesses": "is_likeness base_of likenesses likeness likeness_count are_alike places_of",
     }
 
     METHODS = {
         ("library", "Library"): ("set_system double product take_out remove_system ask drop undo redo change_all "
                                  "system_names question_names system question answer answers"),
+        ("session", "Session"): "run",
     }
 
     def test_each_method_is_defined_in_its_class(self):
