@@ -20,9 +20,10 @@ class Parting:
 
     def __init__(self, count, threes, names, ends):
         self.count = count
-        self.threes = threes
-        self.names = names
-        self.ends = ends
+        # Copied, as whoever handed them in may change them.
+        self.threes = _copied(threes)
+        self.names = _copied(names)
+        self.ends = _copied(ends)
 
 
 def plain(term):
@@ -128,6 +129,15 @@ def _terms(texts, sides):
     for text, (low, high) in sides.items():
         terms[text] = (terms.get(low, low), terms.get(high, high))
     return [terms.get(text, text) for text in texts]
+
+
+def _copied(told):
+    """The same with new lists and dicts; all else is kept as it is."""
+    if isinstance(told, list):
+        return [_copied(part) for part in told]
+    if isinstance(told, dict):
+        return {name: told[name] for name in told}
+    return told
 
 
 def _are_told_points(told):

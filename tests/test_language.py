@@ -148,6 +148,10 @@ class Interface(unittest.TestCase):
         "texts": "threes_text parse_threes paper_text parse_paper check_text",
         "renaming": "listed same_threes renamed turned_back one_after_another rings",
         "likenesses": "is_likeness base_of likenesses likeness likeness_count are_alike places_of",
+        "counts": "fours four_count rounds all_rounds counts_of shows_unlike",
+        "rounds": "opponent round_of place_of players_at plan",
+        "classes": "class_count class_of line_through lines_of",
+        "colours": "colouring check_colouring",
     }
 
     METHODS = {
